@@ -1,0 +1,1 @@
+"""Nestturn: programs of loops, and their steps in other orders."""
