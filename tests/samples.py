@@ -80,3 +80,22 @@ def with_part(thing, path, part):
         return part
     at = path[0]
     return thing[:at] + (with_part(thing[at], path[1:], part),) + thing[at + 1:]
+
+
+def some_programs():
+    """Programs of one and of two nests, with deeds that read and set near cells: a family to look all through."""
+    told = []
+    for a in (-1, 0, 2):
+        for b in (-1, 1):
+            for loops in ((((0,), (3,)),), (((-1,), (1,)), ((0, 1), (2, 0))), NO_COUNTS):
+                d = len(loops)
+                near = ((a,) + (b,) * d,)
+                deeds = (
+                    (0, ((0,) + (1,) * d,), (a, 3) + (0,) * (d - 1), ((b, 0, near), (a, 1, near * 2))),
+                    (1, near + ((1,) + (0,) * d,), (7,) + (b,) * d, ((2, 0, ((0,) + (1,) * d,)), (-1, 0, near))),
+                )
+                last = (((0,), (2,)),), ((0, ((a, b),), (1, 1), ((3, 0, ((1, -1),)), (b, 0, ((a, b),)))),)
+                told.append(((1, 2), ((loops, deeds),)))
+                told.append(((1, 2), ((loops, deeds[:1]), last)))
+                told.append(((1, 2), (last, (loops, deeds), last)))
+    return told

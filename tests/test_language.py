@@ -1,43 +1,19 @@
-"""The package keeps to the part of Python that LANGUAGE.md tells: the rules that a look at the files can see."""
+"""The package keeps to the part of Python that LANGUAGE.md tells, and the looks at it find what doesn't."""
 
-import ast
 import builtins
 import os
-import re
 import unittest
+
+from rules import between_files, complaints
 
 TOP = os.path.dirname(os.path.dirname(os.path.abspath(__file__)))
 PACKAGE = os.path.join(TOP, "nestturn")
-
-STATEMENTS = (
-    ast.FunctionDef, ast.ClassDef, ast.Assign, ast.AugAssign, ast.If, ast.While, ast.For, ast.Return, ast.Break,
-    ast.Continue, ast.Pass, ast.Raise, ast.Try, ast.Expr, ast.ImportFrom,
-)
-EXPRESSIONS = (
-    ast.Constant, ast.Name, ast.List, ast.Tuple, ast.Dict, ast.Set, ast.BinOp, ast.UnaryOp, ast.BoolOp, ast.Compare,
-    ast.IfExp, ast.Call, ast.Attribute, ast.Subscript, ast.Slice, ast.ListComp, ast.JoinedStr, ast.FormattedValue,
-    ast.Lambda,
-)
-OWN_NAMES = set(
-    "len range enumerate zip min max sum abs sorted reversed int str bool list tuple dict set frozenset isinstance "
-    "ord repr any all divmod Exception ValueError TypeError KeyError IndexError LookupError ZeroDivisionError "
-    "ArithmeticError OverflowError RuntimeError NotImplementedError AttributeError StopIteration".split())
-METHODS = set(
-    "append clear copy count endswith extend find get index insert isalnum isalpha isdigit islower isspace isupper "
-    "items join keys ljust lower lstrip partition pop remove replace reverse rfind rjust rpartition rsplit rstrip "
-    "setdefault split splitlines startswith strip update upper values zfill bit_length".split())
-WORDS = (
-    "type typing typing_extensions enum Enum IntEnum StrEnum Flag IntFlag Generic Protocol ABC ABCMeta namedtuple "
-    "NamedTuple TypedDict TYPE_CHECKING abstractmethod").split()
-METHODS_WITH_UNDERSCORES = ("__init__", "__eq__", "__repr__", "__str__", "__len__")
+MODULES = ("errors", "forms", "programs", "runs", "traces", "touch", "meets", "plans")
+BARRED_FILES = ("test", "tests", "testing", "site", "conftest", "sitecustomize", "usercustomize")
 
 
 def files_of_package():
-    told = []
-    for name in sorted(os.listdir(PACKAGE)):
-        if name != "__pycache__":
-            told.append(name)
-    return told
+    return [name for name in sorted(os.listdir(PACKAGE)) if name != "__pycache__"]
 
 
 def text_of(name):
@@ -45,145 +21,137 @@ def text_of(name):
         return file.read()
 
 
-def names_bound(tree):
-    told = []
-    for node in ast.walk(tree):
-        if isinstance(node, ast.Name) and isinstance(node.ctx, ast.Store):
-            told.append(node.id)
-        if isinstance(node, ast.arg):
-            told.append(node.arg)
-        if isinstance(node, (ast.FunctionDef, ast.ClassDef)):
-            told.append(node.name)
-    return told
+class Package(unittest.TestCase):
+    def test_the_modules_are_there(self):
+        for name in MODULES + ("__init__",):
+            self.assertIn(name + ".py", files_of_package())
 
-
-class Language(unittest.TestCase):
-    def trees(self):
-        return [(name, ast.parse(text_of(name))) for name in files_of_package()]
-
-    def nodes(self):
-        for name, tree in self.trees():
-            for node in ast.walk(tree):
-                yield f"{name}:{getattr(node, 'lineno', 0)}", node
-
-    def test_files(self):
-        self.assertIn("__init__.py", files_of_package())
+    def test_names_of_files(self):
         for name in files_of_package():
             self.assertRegex(name, r"^([a-z][a-z0-9_]*|__init__|__main__)\.py$")
+            self.assertNotIn(name[:-3], BARRED_FILES)
+            self.assertFalse(name.startswith("test_"), name)
+            if not name.startswith("__"):
+                self.assertFalse(hasattr(builtins, name[:-3]), name)
 
-    def test_signs_and_sizes(self):
+    def test_each_file_keeps_the_rules(self):
         for name in files_of_package():
-            rows = text_of(name).split("\n")
-            self.assertLessEqual(len(rows), 400, name)
-            for number, row in enumerate(rows, start=1):
-                self.assertRegex(row, r"^[ -~]{0,120}$", f"{name}:{number}")
+            self.assertEqual(complaints(name, text_of(name)), [], name)
 
-    def test_functions_have_at_most_forty_lines(self):
-        for where, node in self.nodes():
-            if isinstance(node, ast.FunctionDef):
-                self.assertLessEqual(node.end_lineno - node.lineno + 1, 40, where)
+    def test_files_draw_from_those_that_define_and_not_from_one_another(self):
+        texts = {name: text_of(name) for name in files_of_package()}
+        self.assertEqual(between_files(texts), [])
 
-    def test_words_that_stand_nowhere(self):
-        for name in files_of_package():
-            found = set(re.findall(r"\w+", text_of(name)))
-            self.assertEqual(found & set(WORDS), set(), name)
-            self.assertNotRegex(text_of(name), "dataclass|overload|contextmanager")
+    def test_the_top_file_binds_no_name(self):
+        self.assertNotRegex(text_of("__init__.py"), "(?m)^(from|def|class|[a-z]+ =)")
 
-    def test_imports_are_from_the_files_that_define(self):
-        drawn = {}
-        for name, tree in self.trees():
-            drawn[name] = []
-            for node in ast.walk(tree):
-                self.assertNotIsInstance(node, ast.Import, name)
-                if isinstance(node, ast.ImportFrom):
-                    self.assertIn(node, tree.body, name)
-                    self.assertEqual(node.level, 0, name)
-                    self.assertTrue(node.module.startswith("nestturn."), name)
-                    source = node.module.split(".")[1] + ".py"
-                    drawn[name].append(source)
-                    defined = names_bound(ast.parse(text_of(source)))
-                    for alias in node.names:
-                        self.assertIn(alias.name, defined, name)
-        self.assertEqual(drawn["__init__.py"], [])
-        while drawn:
-            ready = [name for name in drawn if not any(source in drawn for source in drawn[name])]
-            self.assertTrue(ready, f"files draw from one another: {sorted(drawn)}")
-            for name in ready:
-                drawn.pop(name)
 
-    def test_statements_and_expressions(self):
-        for where, node in self.nodes():
-            if isinstance(node, ast.stmt):
-                self.assertIsInstance(node, STATEMENTS, where)
-            if isinstance(node, ast.expr):
-                self.assertIsInstance(node, EXPRESSIONS, where)
-            if isinstance(node, ast.Expr) and not isinstance(node.value, ast.Call):
-                self.assertIsInstance(node.value, ast.Constant, where)
-            if isinstance(node, ast.Assign):
-                self.assertEqual(len(node.targets), 1, where)
-            if isinstance(node, (ast.For, ast.While)):
-                self.assertEqual(node.orelse, [], where)
-            if isinstance(node, ast.ListComp):
-                self.assertEqual(len(node.generators), 1, where)
-                self.assertLessEqual(len(node.generators[0].ifs), 1, where)
-            if isinstance(node, ast.Constant):
-                self.assertIsInstance(node.value, (int, str, type(None)), where)
-            if isinstance(node, ast.operator):
-                self.assertNotIsInstance(node, (ast.Div, ast.MatMult), where)
+# For each rule some code that breaks it, in the row after the docstring or below.
+WRONG = [
+    ("L2", "from .errors import Tied"), ("L2", "from math import gcd"), ("L2", "from nestturn.errors import *"),
+    ("L2", "def f():\n    from nestturn.errors import Tied"),
+    ("L3", "X = len('ab')"), ("L3", "X = 1 + 1"), ("L3", "if 1:\n    pass"), ("L3", "f()"),
+    ("L4", "def f(*a):\n    pass"), ("L4", "def f(**a):\n    pass"), ("L4", "def f(a, *, b):\n    pass"),
+    ("L4", "@f\ndef g():\n    pass"),
+    ("L5", "class A(B, C):\n    pass"), ("L5", "class A:\n    x = 1"),
+    ("L6", "def f():\n    del x"), ("L6", "def f():\n    a = b = 1"), ("L6", "def f():\n    yield 1"),
+    ("L6", "def f():\n    assert True"), ("L6", "def f():\n    for a in b:\n        pass\n    else:\n        pass"),
+    ("L6", "def f():\n    with a:\n        pass"), ("L6", "def f():\n    a + 1"),
+    ("L7", "def f():\n    return 1.5"), ("L7", "def f(a):\n    return a / 2"), ("L7", "def f():\n    return b'a'"),
+    ("L7", "def f(a):\n    return {b: 1 for b in a}"), ("L7", "def f(a):\n    return sum(b for b in a)"),
+    ("L7", "def f(a):\n    return [b for c in a for b in c]"), ("L7", "def f(a):\n    return f'{a + 1}'"),
+    ("L7", "def f(a):\n    return [*a]"), ("L7", "def f(a):\n    return (b := a)"),
+    ("L8", "def f(a):\n    return map(f, a)"), ("L8", "def f(a):\n    return print(a)"),
+    ("L10", "def f():\n" + "    pass\n" * 40), ("L10", "X = '" + "a" * 120 + "'"), ("L10", "X = 1\n" * 400),
+    ("L10", "def f():\n\treturn 1"),
+    ("L12", "def f(_):\n    pass"), ("L12", "def f():\n    _a = 1"),
+    ("L13", "def f(a):\n    return len({1, 2, 3})"), ("L13", "def f(a):\n    return [lambda x: 1, lambda x: 2]"),
+    ("L14", "# caf\u00e9"),
+    ("L15", "X = 1\nX = 2"), ("L15", "X = [[1], [2]]"), ("L15", "X = []\ndef f():\n    X.append(1)"),
+    ("L15", "X = {}\ndef f():\n    X[1] = 2"), ("L15", "X = []\ndef f():\n    return X"),
+    ("L15", "def f(id):\n    return id"), ("L15", "from nestturn.errors import Tied\ndef f(Tied):\n    pass"),
+    ("L15", "def f():\n    class A:\n        pass"),
+    ("L16", "import os"), ("L16", "import nestturn.errors"),
+    ("L17", "X = 'type'"), ("L17", "# an enum"), ("L17", "def f(a):\n    return a.open"),
+    ("L17", "def f(a):\n    return getattr(a, 'b')"),
+    ("L18", "class A:\n    pass\ndef f():\n    return [A]"), ("L18", "class A(StopIteration):\n    pass"),
+    ("L18", "class A:\n    pass\ndef f():\n    A.b = 1"),
+    ("L19", "def f():\n    try:\n        g()\n    except Exception:\n        pass"),
+    ("L19", "def f():\n    try:\n        g()\n    except:\n        pass"), ("L19", "def f(e):\n    raise e"),
+    ("L20", "def f(a, b):\n    return a is b"),
+    ("L21", "def f(a: int):\n    pass"), ("L21", "def f() -> int:\n    pass"),
+    ("L22", "def f(a):\n    return isinstance(a, set)"), ("L22", "def f(a):\n    return sorted(a, key=any)"),
+    ("L22", "def f(a):\n    b = len"), ("L22", "def f(a, b):\n    return sorted(a, reverse=b)"),
+    ("L22", "def f(a):\n    return a.split(sep=' ')"), ("L22", "def f(a):\n    return int(a, base=2)"),
+    ("L23", "def f(a):\n    b = zip(a, a)"), ("L23", "def f(a):\n    return a.items()"),
+    ("L23", "def f(a):\n    return range(3)"), ("L23", "def f(a):\n    for b in a:\n        a.append(b)"),
+    ("L23", "def f(a):\n    for b, c in a.items():\n        a[b] = 1"),
+    ("L24", "def f(a):\n    b = set(a)"), ("L24", "def f(a):\n    for b in set(a):\n        pass"),
+    ("L24", "def f(a):\n    return sorted(set(a), key=len)"), ("L24", "def f(a):\n    return {a}"),
+    ("L25", "def f(a):\n    return a.sort()"), ("L25", "def f(a):\n    return a.union(a)"),
+    ("L25", "def f(a):\n    b = a.append"),
+    ("L26", "class A:\n    def __init__(self):\n        self.args = 1"),
+    ("L26", "class A:\n    def __init__(self):\n        self.items = 1"),
+    ("L27", "def f(n):\n    return 2 ** n"), ("L27", "def f(n):\n    return 2 ** 65"), ("L27", "X = '5%'"),
+    ("L28", "class A:\n    def __init__(self):\n        return None"),
+    ("L28", "class A:\n    def __eq__(self, other):\n        self.a = 1\n        return True"),
+]
 
-    def test_functions_and_classes_are_plain(self):
-        for where, node in self.nodes():
-            if isinstance(node, (ast.FunctionDef, ast.ClassDef)):
-                self.assertEqual(node.decorator_list, [], where)
-            if isinstance(node, ast.arguments):
-                self.assertIsNone(node.vararg or node.kwarg, where)
-                self.assertEqual(node.kwonlyargs + node.posonlyargs, [], where)
-            if isinstance(node, ast.ClassDef):
-                self.assertLessEqual(len(node.bases), 1, where)
+GOOD = '''"""Some code that keeps the rules."""
 
-    def test_exponents_are_written(self):
-        for where, node in self.nodes():
-            if isinstance(node, ast.BinOp) and isinstance(node.op, ast.Pow):
-                self.assertIsInstance(node.right, ast.Constant, where)
-                self.assertIn(node.right.value, range(65), where)
+from nestturn.errors import NoPlan, Tied
+from nestturn.forms import is_whole
 
-    def test_is_stands_beside_none_and_truths(self):
-        for where, node in self.nodes():
-            if isinstance(node, ast.Compare) and any(isinstance(sign, (ast.Is, ast.IsNot)) for sign in node.ops):
-                sides = [node.left] + node.comparators
-                self.assertTrue(
-                    any(isinstance(side, ast.Constant) and side.value in (None, True, False) for side in sides), where)
+LINES = ("form", "block")
+SIZES = [1, 99]
 
-    def test_names(self):
-        for name, tree in self.trees():
-            for bound in names_bound(tree):
-                if bound not in METHODS_WITH_UNDERSCORES:
-                    self.assertRegex(bound, r"^[A-Za-z][A-Za-z0-9_]*$", name)
-                    self.assertFalse(hasattr(builtins, bound), f"{name}: {bound}")
 
-    def test_names_of_pythons_own(self):
-        for where, node in self.nodes():
-            if isinstance(node, ast.Name) and hasattr(builtins, node.id):
-                self.assertIn(node.id, OWN_NAMES, where)
+class Kept(ValueError):
+    def __init__(self, pair):
+        self.pair = pair
 
-    def test_methods_that_are_called(self):
-        own = set()
-        for name, tree in self.trees():
-            for node in ast.walk(tree):
-                if isinstance(node, ast.ClassDef):
-                    own |= {part.name for part in node.body if isinstance(part, ast.FunctionDef)}
-        for where, node in self.nodes():
-            if isinstance(node, ast.Call) and isinstance(node.func, ast.Attribute):
-                self.assertIn(node.func.attr, METHODS | own, where)
 
-    def test_the_top_of_a_file(self):
-        for name, tree in self.trees():
-            for node in tree.body[1:]:
-                self.assertIsInstance(node, (ast.ImportFrom, ast.FunctionDef, ast.ClassDef, ast.Assign), name)
-                if isinstance(node, ast.Assign):
-                    for part in ast.walk(node.value):
-                        self.assertNotIsInstance(part, (ast.Call, ast.BinOp, ast.Set, ast.ListComp), name)
-            self.assertIsNotNone(ast.get_docstring(tree), name)
+def looked(things, word):
+    told = {}
+    for at, thing in enumerate(things, start=1):
+        if thing in (1, 2, 3) or isinstance(thing, (int, str)):
+            told[thing] = at ** 2
+    for thing, at in told.items():
+        if at is None:
+            raise Tied((thing, at))
+    try:
+        told["a"] = is_whole(told["b"])
+    except KeyError:
+        raise NoPlan(f"no {word}") from None
+    return sorted(set(things)), len(set(things) - set(told)), sorted(range(3), key=lambda step: SIZES[step % 2])
+'''
+
+
+class Looks(unittest.TestCase):
+    def test_what_breaks_a_rule_is_found(self):
+        for rule, code in WRONG:
+            told = complaints("some.py", '"""Some words."""\n' + code + "\n")
+            self.assertIn(rule, [found for found, line in told], code)
+
+    def test_what_keeps_the_rules_is_let_pass(self):
+        self.assertEqual(complaints("some.py", GOOD), [])
+
+    def test_a_file_without_words_at_its_top(self):
+        self.assertEqual(complaints("some.py", "def f():\n    pass\n"), [("L3", 1)])
+
+    def test_the_line_is_told(self):
+        self.assertEqual(complaints("some.py", '"""Words."""\n\n\ndef f(a):\n    b = a\n    return b / 2\n'), [("L7", 6)])
+
+    def test_files_that_draw_from_one_another(self):
+        one = "from nestturn.b import g\n\n\ndef f():\n    pass\n"
+        other = "from nestturn.a import f\n\n\ndef g():\n    pass\n"
+        self.assertEqual(between_files({"a.py": one, "b.py": other}), [("L16", "a.py"), ("L16", "b.py")])
+        self.assertEqual(between_files({"a.py": one, "b.py": "def g():\n    pass\n"}), [])
+
+    def test_names_drawn_from_a_file_that_does_not_define_them(self):
+        texts = {"a.py": "def f():\n    g = 1\n", "b.py": "from nestturn.a import f\n",
+                 "c.py": "from nestturn.b import f\n", "d.py": "from nestturn.a import g\n"}
+        self.assertEqual(between_files(texts), [("L16", "c.py"), ("L16", "d.py")])
 
 
 if __name__ == "__main__":
