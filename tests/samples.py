@@ -1,5 +1,7 @@
 """Programs and wrong things that several tests use."""
 
+from nestturn.programs import program_of
+
 # Three counts with two deeds, then the three counts (0, 0), (0, 1), (1, 1) with one deed:
 #   a[i] = 5 + 2i
 #   b[i][1 - i] = 3 a[i] - a[i + 1]
@@ -45,12 +47,47 @@ SIXTY_COUNTS = (((0,), (5,)), ((0, 0), (4, 0)), ((0, 0, 0), (3, 0, 0)))
 TWENTY_COUNTS = (((0,), (5,)), ((0, 0), (4, 0)))
 
 
+# Three nests with one, two and three loops, over three tables:
+#   a[i] = 1 + i                      i from 0 to 1
+#   b[j][i] = 2 a[j - 1]              i 0, j from 1 to 2
+#   c[j] = b[j][0] + c[j - 1]
+#   a[k] = c[k + 1] - a[1 - k]        i 0, j 0, k from 0 to 1
+TRIPLE = (
+    (1, 2, 1),
+    (
+        ((((0,), (2,)),), ((0, ((0, 1),), (1, 1), ()),)),
+        (
+            (((0,), (1,)), ((1, 0), (3, 0))),
+            (
+                (1, ((0, 0, 1), (0, 1, 0)), (0, 0, 0), ((2, 0, ((-1, 0, 1),)),)),
+                (2, ((0, 0, 1),), (0, 0, 0), ((1, 1, ((0, 0, 1), (0, 0, 0))), (1, 2, ((-1, 0, 1),)))),
+            ),
+        ),
+        (
+            (((0,), (1,)), ((0, 0), (1, 0)), ((0, 0, 0), (2, 0, 0))),
+            ((0, ((0, 0, 0, 1),), (0, 0, 0, 0), ((1, 2, ((1, 0, 0, 1),)), (-1, 0, ((1, 0, 0, -1),)))),),
+        ),
+    ),
+)
+TRIPLE_TOUCHING = [
+    (0, 2), (0, 6), (0, 7), (1, 4), (1, 6), (1, 7), (2, 3), (2, 6), (3, 5), (3, 6), (4, 5), (4, 7), (5, 7), (6, 7),
+]
+
+
 class Other:
     """A thing of a kind that the program does not know."""
 
 
 NOT_WHOLE = [True, False, None, "1", "", 1.0, 1j, (1,), [1], {1: 1}, {1}, b"1", Other(), int]
 NOT_TUPLE = [True, False, None, 0, 1, "text", "", 1.0, [], {}, set(), b"", Other(), tuple, range(2)]
+
+
+def form(*numbers):
+    return ("form", numbers)
+
+
+def block(size, *numbers):
+    return ("block", numbers, size)
 
 
 def zero_form(d):
@@ -63,6 +100,16 @@ def plain_deed(d):
 
 def plain_nest(loops, deeds=1):
     return (loops, (plain_deed(len(loops)),) * deeds)
+
+
+def one_nest(*deeds, loops=ONE_LOOP, widths=(1,)):
+    """A program of one nest, at one count of one loop unless loops are told."""
+    return program_of(widths, ((loops, deeds),))
+
+
+def at(place, *reads, start=0):
+    """A deed that sets the cell of the table 0 at the place to start and the sum of those at reads."""
+    return (0, ((place, 0),), (start, 0), tuple((1, 0, ((read, 0),)) for read in reads))
 
 
 def parts_of(thing, path=()):

@@ -8,7 +8,9 @@ from rules import between_files, complaints
 
 TOP = os.path.dirname(os.path.dirname(os.path.abspath(__file__)))
 PACKAGE = os.path.join(TOP, "nestturn")
-MODULES = ("errors", "forms", "programs", "runs", "traces", "touch", "meets", "plans")
+MODULES = (
+    "errors", "forms", "programs", "runs", "traces", "touch", "meets", "plans", "turns", "keeping", "alike", "rounds",
+)
 BARRED_FILES = ("test", "tests", "testing", "site", "conftest", "sitecustomize", "usercustomize")
 
 
@@ -84,7 +86,8 @@ WRONG = [
     ("L22", "def f(a):\n    b = len"), ("L22", "def f(a, b):\n    return sorted(a, reverse=b)"),
     ("L22", "def f(a):\n    return a.split(sep=' ')"), ("L22", "def f(a):\n    return int(a, base=2)"),
     ("L23", "def f(a):\n    b = zip(a, a)"), ("L23", "def f(a):\n    return a.items()"),
-    ("L23", "def f(a):\n    return range(3)"), ("L23", "def f(a):\n    for b in a:\n        a.append(b)"),
+    ("L23", "def f(a):\n    return range(3)"), ("L23", "def f(a):\n    return list(reversed(range(a)))"),
+    ("L23", "def f(a):\n    for b in a:\n        a.append(b)"),
     ("L23", "def f(a):\n    for b, c in a.items():\n        a[b] = 1"),
     ("L24", "def f(a):\n    b = set(a)"), ("L24", "def f(a):\n    for b in set(a):\n        pass"),
     ("L24", "def f(a):\n    return sorted(set(a), key=len)"), ("L24", "def f(a):\n    return {a}"),

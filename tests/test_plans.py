@@ -2,27 +2,20 @@ import copy
 import itertools
 import unittest
 
-from nestturn.errors import NoOrder, NoPlan, NoProgram, NoRow, NoText, NoTurn, Tied, TooMany, TurnError
+from nestturn.errors import NoPlan, Tied, TurnError
 from nestturn.plans import is_plan, keys, order_of, plain_plan
 from nestturn.programs import program_of, steps_of
 from nestturn.runs import plain, run
+from refusing import Refusing
 from samples import (
-    NO_COUNTS, NOT_TUPLE, NOT_WHOLE, ONE_LOOP, PROGRAM, SIXTY_COUNTS, Other, parts_of, plain_nest, some_programs,
-    with_part,
+    NO_COUNTS, NOT_TUPLE, NOT_WHOLE, ONE_LOOP, PROGRAM, SIXTY_COUNTS, Other, block, form, parts_of, plain_nest,
+    some_programs, with_part,
 )
 
 EMPTY = program_of((1,), (plain_nest(NO_COUNTS),))
 SIX = program_of((1,), (plain_nest((((-3,), (3,)),)),))
 SIXTY = program_of((1,), (plain_nest(SIXTY_COUNTS),))
 GREATEST = int("9" * 60)
-
-
-def form(*numbers):
-    return ("form", numbers)
-
-
-def block(size, *numbers):
-    return ("block", numbers, size)
 
 
 PLAIN_PLAN = (
@@ -60,14 +53,7 @@ def of_six(*lines):
     return ((lines,),)
 
 
-class Refusing(unittest.TestCase):
-    def refused(self, kind, tell, *asked):
-        with self.assertRaises(TurnError, msg=asked) as taken:
-            tell(*asked)
-        for other in (NoProgram, TooMany, NoOrder, NoPlan, Tied, NoTurn, NoText, NoRow):
-            self.assertEqual(isinstance(taken.exception, other), other is kind, asked)
-        return taken.exception
-
+class RefusingPlans(Refusing):
     def no_plan(self, program, thing):
         self.assertIs(is_plan(program, thing), False, thing)
         self.refused(NoPlan, keys, program, thing)
@@ -79,7 +65,7 @@ class Refusing(unittest.TestCase):
         self.assertIsInstance(told, tuple)
 
 
-class Plans(Refusing):
+class Plans(RefusingPlans):
     def test_plans(self):
         for plan in (PLAIN_PLAN, PLAN):
             self.assertIs(is_plan(PROGRAM, plan), True)
@@ -244,7 +230,7 @@ class Keys(unittest.TestCase):
         self.assertEqual(keys(SIXTY, plan), wanted)
 
 
-class Orders(Refusing):
+class Orders(RefusingPlans):
     def test_by_keys(self):
         self.assertEqual(order_of(PROGRAM, PLAN), ORDER)
         self.assertIsInstance(order_of(PROGRAM, PLAN), list)

@@ -4,15 +4,11 @@ import unittest
 from nestturn.errors import NoOrder, NoPlan, NoProgram, NoRow, NoText, NoTurn, Tied, TooMany, TurnError
 from nestturn.programs import program_of, steps_of
 from nestturn.runs import plain, run
-from samples import CELLS, NO_COUNTS, ONE_LOOP, PROGRAM, SIXTY_COUNTS, plain_nest
+from samples import CELLS, NO_COUNTS, PROGRAM, SIXTY_COUNTS, one_nest, plain_nest
 
 FILLING = {(0, (1,)): 10, (0, (3,)): 4, (1, (9, 9)): 7}
 EMPTY = program_of((1,), (plain_nest(NO_COUNTS),))
 THREE = (((0,), (3,)),)
-
-
-def one_nest(*deeds, loops=ONE_LOOP, widths=(1,)):
-    return program_of(widths, ((loops, deeds),))
 
 
 class Plain(unittest.TestCase):

@@ -3,7 +3,7 @@ import unittest
 
 from nestturn.programs import cells_of, program_of, steps_of
 from nestturn.touch import pairs, sources, span, spans, touches
-from samples import NO_COUNTS, ONE_LOOP, PROGRAM, SIXTY_COUNTS, TWENTY_COUNTS, plain_nest, some_programs
+from samples import NO_COUNTS, ONE_LOOP, PROGRAM, SIXTY_COUNTS, TWENTY_COUNTS, at, one_nest, plain_nest, some_programs
 
 EMPTY = program_of((1,), (plain_nest(NO_COUNTS),))
 THREE = (((0,), (3,)),)
@@ -18,15 +18,6 @@ PAIRS = [
     (5, 8, [A2]),
 ]
 SOURCES = [[], [0, None], [], [2, None], [], [4, None], [0, 1], [2, 1], [4, 3]]
-
-
-def one_nest(*deeds, loops=ONE_LOOP, widths=(1,)):
-    return program_of(widths, ((loops, deeds),))
-
-
-def at(place, *reads):
-    """A deed without counts of its own: sets the cell at the place, reads those at reads."""
-    return (0, ((place, 0),), (0, 0), tuple((1, 0, ((read, 0),)) for read in reads))
 
 
 class Touches(unittest.TestCase):

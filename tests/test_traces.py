@@ -6,7 +6,7 @@ from nestturn.errors import NoOrder, NoPlan, NoProgram, NoRow, NoText, NoTurn, T
 from nestturn.programs import cells_of, program_of
 from nestturn.runs import plain, run
 from nestturn.traces import traced
-from samples import CELLS, NO_COUNTS, ONE_LOOP, PROGRAM, SIXTY_COUNTS, plain_nest, some_programs
+from samples import CELLS, NO_COUNTS, PROGRAM, SIXTY_COUNTS, one_nest, plain_nest, some_programs
 
 EMPTY = program_of((1,), (plain_nest(NO_COUNTS),))
 THREE = (((0,), (3,)),)
@@ -16,10 +16,6 @@ PLAIN_TRACES = {
     A0: (26, [(A1, -1)]), A1: (30, [(A1, -1)]), A2: (40, [(A2, -1)]),
     B01: (15, [(A1, -1)]), B10: (21, [(A2, -1)]), B2: (27, [(A3, -1)]),
 }
-
-
-def one_nest(*deeds, loops=ONE_LOOP, widths=(1,)):
-    return program_of(widths, ((loops, deeds),))
 
 
 def ends_by_traces(traces, filling):
