@@ -2,7 +2,9 @@
 
 import ast
 import builtins
+import io
 import re
+import tokenize
 
 NAMES = set(
     "len range enumerate zip min max sum abs sorted reversed int str bool list tuple dict set frozenset isinstance "
@@ -14,10 +16,10 @@ METHODS = set(
     "append clear copy count endswith extend find get index insert isalnum isalpha isdigit islower isspace isupper "
     "items join keys ljust lower lstrip partition pop remove replace reverse rfind rjust rpartition rsplit rstrip "
     "setdefault split splitlines startswith strip update upper values zfill bit_length".split())
+FREE_VALUES = set("count index title find get join lower upper split strip copy add".split())
 CHANGES = set("append clear extend insert pop remove reverse setdefault update add discard".split())
-NO_VALUES = set(
-    "items keys values pop update append clear extend insert remove reverse setdefault sort args encode "
-    "format".split())
+TAKEN_NAMES = {name for kind in (str, int, list, dict, set, bytes, tuple) for name in dir(kind)} | {"args"}
+READS = set("get index count find copy items keys values".split())
 UNDERSCORED = ("__init__", "__eq__", "__repr__", "__str__", "__len__")
 WORDS = set(
     "type typing typing_extensions enum Enum IntEnum StrEnum Flag IntFlag Generic Protocol ABC ABCMeta namedtuple "
@@ -142,6 +144,10 @@ def functions_and_classes(file):
                 yield "L18", node
         if isinstance(node, ast.FunctionDef) and node.end_lineno - node.lineno + 1 > 40:
             yield "L10", node
+        if isinstance(node, ast.arguments):
+            for part in node.defaults:
+                if any(isinstance(inner, (ast.Call, ast.List, ast.Dict, ast.Set)) for inner in ast.walk(part)):
+                    yield "L4", part
         if isinstance(node, (ast.arg, ast.AnnAssign)) and node.annotation or getattr(node, "returns", None):
             yield "L21", node
 
@@ -212,13 +218,13 @@ def kept_at_top(file):
         if not isinstance(node, ast.Name) or not isinstance(node.ctx, ast.Load) or node.id not in tops:
             continue
         above = file.above[node]
-        if isinstance(above, ast.Attribute) and above.attr in CHANGES:
-            yield "L15", node
-        if isinstance(above, ast.Subscript) and not isinstance(above.ctx, ast.Load):
-            yield "L15", node
-        if isinstance(above, (ast.Return, ast.Assign, ast.AugAssign)):
-            yield "L15", node
-        if isinstance(above, ast.Call) and called(above) not in NAMES:
+        fine = isinstance(above, ast.Subscript) and above.value is node and isinstance(above.ctx, ast.Load)
+        fine = fine or isinstance(above, (ast.For, ast.comprehension)) and above.iter is node
+        fine = fine or isinstance(above, ast.Compare) and not any(
+            isinstance(sign, (ast.Is, ast.IsNot)) for sign in above.ops)
+        fine = fine or isinstance(above, ast.Call) and called(above) in NAMES
+        fine = fine or isinstance(above, ast.Attribute) and above.attr in READS
+        if not fine:
             yield "L15", node
 
 
@@ -237,11 +243,34 @@ def classes(file):
             if not fine:
                 yield "L18", node
         if isinstance(node, ast.Attribute) and isinstance(node.ctx, ast.Store):
-            if node.attr in NO_VALUES or node.attr in METHODS - set("count index find get join lower upper split "
-                                                                    "strip copy".split()):
+            if node.attr in TAKEN_NAMES - FREE_VALUES:
                 yield "L26", node
-            if not isinstance(node.value, ast.Name) or node.value.id in known:
+            tops = [name for name, where in names_at_top(file.tree)]
+            if not isinstance(node.value, ast.Name) or node.value.id in known or node.value.id in tops:
                 yield "L18", node
+        if isinstance(node, ast.FunctionDef) and isinstance(file.above[node], ast.ClassDef):
+            if node.name in TAKEN_NAMES - METHODS - {"add", "discard"} and node.name not in UNDERSCORED:
+                yield "L26", node
+
+
+def is_let_in_try(node, kinds):
+    """Whether a part of a try that takes ValueError, LookupError or IndexError may stand there."""
+    if isinstance(node, ast.Call):
+        return "IndexError" not in kinds and (called(node) in ("int", "str") or method_called(node) in ("index", "remove"))
+    if isinstance(node, (ast.BinOp, ast.AugAssign)):
+        return not isinstance(node.op, (ast.Mult, ast.Pow, ast.Mod, ast.LShift, ast.RShift))
+    return not isinstance(node, (ast.JoinedStr, ast.Slice, ast.Lambda))
+
+
+def narrow_tries(file):
+    for node in file.nodes:
+        if isinstance(node, ast.Try):
+            kinds = {part.id for handler in node.handlers if handler.type for part in ast.walk(handler.type)
+                     if isinstance(part, ast.Name)}
+            parts = [part for row in node.body for part in ast.walk(row)]
+            if kinds & {"ValueError", "LookupError", "IndexError"}:
+                if len(node.body) > 1 or not all(is_let_in_try(part, kinds) for part in parts):
+                    yield "L19", node
 
 
 def errors(file):
@@ -294,6 +323,15 @@ def is_walk(node):
     return called(node) in WALKS or method_called(node) in VIEWS and not node.args
 
 
+def walked_by(loop):
+    """The names and the values of objects that a loop walks, as they are written."""
+    if isinstance(loop.iter, (ast.Name, ast.Attribute)):
+        return {ast.unparse(loop.iter)}
+    if not is_walk(loop.iter) or called(loop.iter) == "range":
+        return set()
+    return {ast.unparse(part) for part in ast.walk(loop.iter) if isinstance(part, (ast.Name, ast.Attribute))}
+
+
 def walks(file):
     for node in file.nodes:
         if is_walk(node):
@@ -307,16 +345,17 @@ def walks(file):
             if not fine:
                 yield "L23", node
         if isinstance(node, ast.For):
-            walked = {part.id for part in ast.walk(node.iter) if isinstance(part, ast.Name)} if (
-                isinstance(node.iter, ast.Name) or is_walk(node.iter) and called(node.iter) != "range") else set()
-            for inner in node.body:
-                for part in ast.walk(inner):
-                    if isinstance(part, ast.Call) and method_called(part) in CHANGES:
-                        if isinstance(part.func.value, ast.Name) and part.func.value.id in walked:
-                            yield "L23", part
-                    if isinstance(part, ast.Subscript) and isinstance(part.ctx, ast.Store):
-                        if isinstance(part.value, ast.Name) and part.value.id in walked:
-                            yield "L23", part
+            walked = walked_by(node)
+            for part in [part for row in node.body for part in ast.walk(row)]:
+                changed = None
+                if method_called(part) in CHANGES:
+                    changed = part.func.value
+                if isinstance(part, ast.Subscript) and isinstance(part.ctx, ast.Store):
+                    changed = part.value
+                if isinstance(part, ast.AugAssign):
+                    changed = part.target
+                if changed is not None and ast.unparse(changed) in walked:
+                    yield "L23", part
 
 
 def sets(file):
@@ -343,11 +382,37 @@ def numbers_and_texts(file):
                 yield "L27", node
         if isinstance(node, ast.Constant) and isinstance(node.value, str) and "%" in node.value:
             yield "L27", node
+        if isinstance(node, ast.Constant) and isinstance(node.value, int) and abs(node.value) >= 10 ** 900:
+            yield "L27", node
         if isinstance(node, ast.Lambda):
             shape = (node.lineno, tuple(part.arg for part in node.args.args))
             if shape in lambdas:
                 yield "L13", node
             lambdas.add(shape)
+
+
+def escapes(file):
+    for token in tokenize.generate_tokens(io.StringIO(file.text).readline):
+        if token.type == tokenize.STRING and re.search(r"\\[^nt\\'\"\n]", token.string.replace("\\\\", "")):
+            yield "L27", token.start[0]
+
+
+def is_told_text(node):
+    text = isinstance(node, ast.JoinedStr) or isinstance(node, ast.Constant) and isinstance(node.value, str)
+    joined = method_called(node) == "join" and isinstance(node.func.value, ast.Constant)
+    return text or joined or called(node) in ("str", "repr")
+
+
+def is_told_length(node):
+    return isinstance(node, ast.Constant) and isinstance(node.value, int) or called(node) == "len"
+
+
+def underscored_returns(file):
+    looks = {"__len__": is_told_length, "__repr__": is_told_text, "__str__": is_told_text}
+    for node in file.defs:
+        for part in ast.walk(node):
+            if node.name in looks and isinstance(part, ast.Return) and not looks[node.name](part.value):
+                yield "L28", part
 
 
 def underscored(file):
@@ -376,8 +441,8 @@ def rows(file):
 
 
 LOOKS = (
-    imports, top_of_file, functions_and_classes, statements, expressions, names, kept_at_top, classes, errors, calls,
-    walks, sets, numbers_and_texts, underscored, rows,
+    imports, top_of_file, functions_and_classes, statements, expressions, names, kept_at_top, classes, narrow_tries,
+    errors, calls, walks, sets, numbers_and_texts, escapes, underscored_returns, underscored, rows,
 )
 
 
@@ -402,6 +467,22 @@ def drawn_from(text):
 
 def defined_in(text):
     return [name for name, node in names_at_top(ast.parse(text)) if not isinstance(node, ast.ImportFrom)]
+
+
+def methods_and_values(texts):
+    """The names of all methods, and of all values of objects, in the files together."""
+    methods, values = set(), set()
+    for name, text in texts.items():
+        file = File(name, text)
+        methods |= file.own_methods
+        values |= {node.attr for node in file.nodes if isinstance(node, ast.Attribute) and isinstance(node.ctx, ast.Store)}
+    return methods, values
+
+
+def named_twice(texts):
+    """The names that are both a method and a value of an object somewhere in the files: L18 bars them."""
+    methods, values = methods_and_values(texts)
+    return sorted(methods & values)
 
 
 def between_files(texts):

@@ -4,6 +4,8 @@ import importlib
 import inspect
 import unittest
 
+from nestturn.desk import Desk
+
 FUNCTIONS = {
     "forms": {
         "is_whole": "thing", "is_form": "thing d", "comes_to": "form counts", "is_loops": "thing", "counts_of": "loops",
@@ -24,6 +26,13 @@ FUNCTIONS = {
     "keeping": {"broken": "program order", "led": "program order", "leads": "program exchanges order"},
     "alike": {"compared": "program row other"},
     "rounds": {"rounds": "program", "are_rounds": "program lists", "barring": "program plan a"},
+    "needs": {"needed": "program cells"},
+    "best": {
+        "reach": "program order", "turnings": "program nest", "turned_by": "program nest turning",
+        "best": "program nest", "freeing": "program nest",
+    },
+    "texts": {"read": "text", "shown": "program"},
+    "desk": {"Desk": "text"},
 }
 
 
@@ -34,6 +43,10 @@ class Interface(unittest.TestCase):
             for name, wanted in functions.items():
                 told = inspect.signature(getattr(found, name)).parameters
                 self.assertEqual(list(told), wanted.split(), (module, name))
+
+    def test_the_desk_is_a_class_that_is_told_rows(self):
+        self.assertIsInstance(Desk, type)
+        self.assertEqual(list(inspect.signature(Desk.say).parameters)[1:], ["row"])
 
 
 if __name__ == "__main__":

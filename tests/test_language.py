@@ -4,12 +4,13 @@ import builtins
 import os
 import unittest
 
-from rules import between_files, complaints
+from rules import between_files, complaints, named_twice
 
 TOP = os.path.dirname(os.path.dirname(os.path.abspath(__file__)))
 PACKAGE = os.path.join(TOP, "nestturn")
 MODULES = (
     "errors", "forms", "programs", "runs", "traces", "touch", "meets", "plans", "turns", "keeping", "alike", "rounds",
+    "needs", "best", "texts", "desk",
 )
 BARRED_FILES = ("test", "tests", "testing", "site", "conftest", "sitecustomize", "usercustomize")
 
@@ -44,6 +45,9 @@ class Package(unittest.TestCase):
         texts = {name: text_of(name) for name in files_of_package()}
         self.assertEqual(between_files(texts), [])
 
+    def test_no_name_is_a_method_and_a_value(self):
+        self.assertEqual(named_twice({name: text_of(name) for name in files_of_package()}), [])
+
     def test_the_top_file_binds_no_name(self):
         self.assertNotRegex(text_of("__init__.py"), "(?m)^(from|def|class|[a-z]+ =)")
 
@@ -54,7 +58,7 @@ WRONG = [
     ("L2", "def f():\n    from nestturn.errors import Tied"),
     ("L3", "X = len('ab')"), ("L3", "X = 1 + 1"), ("L3", "if 1:\n    pass"), ("L3", "f()"),
     ("L4", "def f(*a):\n    pass"), ("L4", "def f(**a):\n    pass"), ("L4", "def f(a, *, b):\n    pass"),
-    ("L4", "@f\ndef g():\n    pass"),
+    ("L4", "@f\ndef g():\n    pass"), ("L4", "def f(a=[]):\n    pass"), ("L4", "def f(a=len('a')):\n    pass"),
     ("L5", "class A(B, C):\n    pass"), ("L5", "class A:\n    x = 1"),
     ("L6", "def f():\n    del x"), ("L6", "def f():\n    a = b = 1"), ("L6", "def f():\n    yield 1"),
     ("L6", "def f():\n    assert True"), ("L6", "def f():\n    for a in b:\n        pass\n    else:\n        pass"),
@@ -70,6 +74,8 @@ WRONG = [
     ("L13", "def f(a):\n    return len({1, 2, 3})"), ("L13", "def f(a):\n    return [lambda x: 1, lambda x: 2]"),
     ("L14", "# caf\u00e9"),
     ("L15", "X = 1\nX = 2"), ("L15", "X = [[1], [2]]"), ("L15", "X = []\ndef f():\n    X.append(1)"),
+    ("L15", "X = []\ndef f():\n    return (1, X)"), ("L15", "X = []\ndef f(a):\n    return X or a"),
+    ("L15", "X = []\ndef f(a):\n    return f(X)"), ("L15", "X = []\ndef f(a):\n    a.b = X"),
     ("L15", "X = {}\ndef f():\n    X[1] = 2"), ("L15", "X = []\ndef f():\n    return X"),
     ("L15", "def f(id):\n    return id"), ("L15", "from nestturn.errors import Tied\ndef f(Tied):\n    pass"),
     ("L15", "def f():\n    class A:\n        pass"),
@@ -77,7 +83,13 @@ WRONG = [
     ("L17", "X = 'type'"), ("L17", "# an enum"), ("L17", "def f(a):\n    return a.open"),
     ("L17", "def f(a):\n    return getattr(a, 'b')"),
     ("L18", "class A:\n    pass\ndef f():\n    return [A]"), ("L18", "class A(StopIteration):\n    pass"),
-    ("L18", "class A:\n    pass\ndef f():\n    A.b = 1"),
+    ("L18", "class A:\n    pass\ndef f():\n    A.b = 1"), ("L18", "X = 1\ndef f():\n    X.b = 1"),
+    ("L18", "def f(a):\n    a.b.c = 1"),
+    ("L19", "def f(a):\n    try:\n        a = g(a)\n    except ValueError:\n        pass"),
+    ("L19", "def f(a):\n    try:\n        a = int(a)\n        a = a + 1\n    except ValueError:\n        pass"),
+    ("L19", "def f(a):\n    try:\n        a = int(a) * 2\n    except (KeyError, ValueError):\n        pass"),
+    ("L19", "def f(a):\n    try:\n        a = a.index(1)\n    except IndexError:\n        pass"),
+    ("L19", "def f(a):\n    try:\n        a = a[1:]\n    except IndexError:\n        pass"),
     ("L19", "def f():\n    try:\n        g()\n    except Exception:\n        pass"),
     ("L19", "def f():\n    try:\n        g()\n    except:\n        pass"), ("L19", "def f(e):\n    raise e"),
     ("L20", "def f(a, b):\n    return a is b"),
@@ -88,15 +100,20 @@ WRONG = [
     ("L23", "def f(a):\n    b = zip(a, a)"), ("L23", "def f(a):\n    return a.items()"),
     ("L23", "def f(a):\n    return range(3)"), ("L23", "def f(a):\n    return list(reversed(range(a)))"),
     ("L23", "def f(a):\n    for b in a:\n        a.append(b)"),
-    ("L23", "def f(a):\n    for b, c in a.items():\n        a[b] = 1"),
+    ("L23", "def f(a):\n    for b, c in a.items():\n        a[b] = 1"), ("L23", "def f(a):\n    for b in a:\n        a += b"),
+    ("L23", "def f(a):\n    for b in a.c:\n        a.c.append(b)"),
+    ("L23", "def f(a):\n    for b, c in enumerate(a.d):\n        a.d[b] = c"),
     ("L24", "def f(a):\n    b = set(a)"), ("L24", "def f(a):\n    for b in set(a):\n        pass"),
     ("L24", "def f(a):\n    return sorted(set(a), key=len)"), ("L24", "def f(a):\n    return {a}"),
     ("L25", "def f(a):\n    return a.sort()"), ("L25", "def f(a):\n    return a.union(a)"),
     ("L25", "def f(a):\n    b = a.append"),
     ("L26", "class A:\n    def __init__(self):\n        self.args = 1"),
     ("L26", "class A:\n    def __init__(self):\n        self.items = 1"),
+    ("L26", "class A:\n    def __init__(self):\n        self.casefold = 1"), ("L26", "class A:\n    def real(self):\n        pass"),
     ("L27", "def f(n):\n    return 2 ** n"), ("L27", "def f(n):\n    return 2 ** 65"), ("L27", "X = '5%'"),
+    ("L27", "X = '\\x41'"), ("L27", "X = '\\r'"), ("L27", "X = 'a\\\\\\u0041'"),
     ("L28", "class A:\n    def __init__(self):\n        return None"),
+    ("L28", "class A:\n    def __len__(self):\n        return self.a"), ("L28", "class A:\n    def __str__(self):\n        return self.a"),
     ("L28", "class A:\n    def __eq__(self, other):\n        self.a = 1\n        return True"),
 ]
 
@@ -107,11 +124,40 @@ from nestturn.forms import is_whole
 
 LINES = ("form", "block")
 SIZES = [1, 99]
+BEHIND = {"form": 1, "block": 2}
 
 
 class Kept(ValueError):
     def __init__(self, pair):
         self.pair = pair
+
+
+class Row:
+    def __init__(self, text):
+        self.words = text.split(" ")
+        self.count = BEHIND.get(self.words[0], 0)
+
+    def __len__(self):
+        return len(self.words)
+
+    def __repr__(self):
+        return "\\n\\\\".join(self.words)
+
+    def say(self, at, more="a"):
+        told = []
+        for word in self.words:
+            told.append(word + more)
+        try:
+            return told[at]
+        except IndexError:
+            return list(SIZES)
+
+
+def number_or(text, other=None):
+    try:
+        return int(text)
+    except ValueError:
+        return other
 
 
 def looked(things, word):
@@ -150,6 +196,12 @@ class Looks(unittest.TestCase):
         other = "from nestturn.a import f\n\n\ndef g():\n    pass\n"
         self.assertEqual(between_files({"a.py": one, "b.py": other}), [("L16", "a.py"), ("L16", "b.py")])
         self.assertEqual(between_files({"a.py": one, "b.py": "def g():\n    pass\n"}), [])
+
+    def test_names_that_are_a_method_here_and_a_value_there(self):
+        one = "class A:\n    def told(self):\n        pass\n"
+        other = "class B:\n    def __init__(self):\n        self.told = 1\n"
+        self.assertEqual(named_twice({"a.py": one, "b.py": other}), ["told"])
+        self.assertEqual(named_twice({"a.py": one, "b.py": other.replace("told", "kept")}), [])
 
     def test_names_drawn_from_a_file_that_does_not_define_them(self):
         texts = {"a.py": "def f():\n    g = 1\n", "b.py": "from nestturn.a import f\n",
